@@ -94,11 +94,8 @@ def least_for(canon, length):
         raise NoLength(length)
     if length == 1:
         return 2 if canon.loop() == 0 else 1
-    parts = canon.inner()
-    if parts is not None:
-        rest, shared, inside = parts
-        return rest + shared * least_reach(inside, length - 1) + 1
-    return max(canon.b, canon.d) + 1 if length == 2 else None
+    last = reach_from(canon, 0, length - 1)
+    return None if last is None else last + 1
 
 
 def joins(canon, n):
@@ -180,9 +177,9 @@ def inner_starts(canon, n, steps):
     if steps * (canon.c.bit_length() - 1) >= max(abs(offset(canon, 0)), abs(end)).bit_length():
         return []
     step = power(canon.a, steps)
-    falling = least_falling(canon, steps)
+    falling = least_falling(canon, 0, steps)
     below_turn = min(n, beat_from(canon, 0))
-    rising = least_rising(canon, steps)
+    rising = least_rising(canon, 0, steps)
     below_end = beat_from(canon, step * end // power(canon.c, steps) + 1)
     return (progression(falling, step, terms_below(falling, step, below_turn))
             + progression(rising, step, terms_below(rising, step, below_end)))
@@ -230,21 +227,28 @@ def beat_from(canon, far):
     return -((canon.a * canon.d - canon.b * canon.c - far) // (canon.c - canon.a))
 
 
-def least_falling(canon, steps):
-    """Tell the least beat, in a row that falls, that is led so many steps on; one of no offset below 0 where none is.
+def least_falling(canon, low, steps):
+    """Tell the least beat, in a row that falls, that is led so many steps on, to beats from a low one on.
 
-    The last beat that is led is b at least. The paces have no common divisor.
+    Where there is none the beat told has no offset below 0. The last beat that is led is b at least. The paces have
+    no common divisor.
     """
-    far = -(-power(canon.a, steps - 1) * offset(canon, canon.b) // power(canon.c, steps - 1))
-    return least_divided(canon, steps, beat_from(canon, far))
+    last_led = offset_ahead(canon, canon.b, steps - 1)
+    last = offset_ahead(canon, low, steps)
+    return least_divided(canon, steps, beat_from(canon, max(last_led, last)))
 
 
-def least_rising(canon, steps):
-    """Tell the least beat, in a row that rises, that is led so many steps on where the tune is long enough.
+def offset_ahead(canon, beat, steps):
+    """Tell the least offset from which so many steps lead to a beat's offset or more."""
+    return -(-power(canon.a, steps) * offset(canon, beat) // power(canon.c, steps))
+
+
+def least_rising(canon, low, steps):
+    """Tell the least beat from a low one on, in a row that rises, that is led so many steps on in a tune long enough.
 
     The paces have no common divisor.
     """
-    return least_divided(canon, steps, max(canon.b, beat_from(canon, 1)))
+    return least_divided(canon, steps, max(low, canon.b, beat_from(canon, 1)))
 
 
 def least_divided(canon, steps, least):
@@ -254,13 +258,25 @@ def least_divided(canon, steps, least):
     return least + (turn * power_inverse(canon.c - canon.a, canon.a, steps) - least) % step
 
 
-def least_reach(canon, steps):
-    """Tell the least beat such that so many steps are led among it and lesser ones, but at the loop.
+def reach_from(canon, low, steps):
+    """Tell the least beat such that so many steps, one or more, are led among it and lesser ones from a low one on.
 
-    The paces have no common divisor. Rows that fall all lie below those that rise.
+    The loop's step isn't one. It is None where no beat is led so many steps.
     """
-    falling = least_falling(canon, steps)
+    parts = canon.inner()
+    if parts is not None:
+        rest, shared, inside = parts
+        return rest + shared * inner_reach(inside, max(0, -((rest - low) // shared)), steps)
+    if steps > 1:
+        return None
+    when = max(0, -((canon.b - low) // canon.a), -((canon.d - low) // canon.c))
+    return max(canon.a * when + canon.b, canon.c * when + canon.d)
+
+
+def inner_reach(canon, low, steps):
+    """Tell what reach_from tells, for paces without a common divisor. Rows that fall all lie below those that rise."""
+    falling = least_falling(canon, low, steps)
     if offset(canon, falling) < 0:
         return falling
-    far = offset(canon, least_rising(canon, steps))
+    far = offset(canon, least_rising(canon, low, steps))
     return beat_from(canon, power(canon.c, steps) * far // power(canon.a, steps))

@@ -3,7 +3,7 @@
 import unittest
 
 from leadbeats.canons import Canon
-from leadbeats.rows import begun, joins, least_for, longest, members, row, row_at, rows, runs
+from leadbeats.rows import begun, joins, least_for, longest, members, reach_from, row, row_at, rows, runs
 from tests.walks import leads, small_numbers, walk
 
 LENGTHS = (0, 1, 2, 3, 7, 16, 33, 58)
@@ -179,6 +179,25 @@ class Growing(unittest.TestCase):
             for length in (1, 2, 3, 4, 99, 100):
                 told = least_for(canon=canon, length=length)
                 self.assertEqual(told is None, length >= 3 and canon.inner() is None)
+
+    def test_reach_from(self):
+        bound = 200
+        seen = set()
+        for numbers in small_numbers()[::3]:
+            canon = Canon(*numbers)
+            told = walk(numbers, bound)[0]
+            for low in (0, 1, 2, 5, 11, 17, 24, 40):
+                for steps in (1, 2, 3, 4):
+                    ends = [max(beats[at:at + steps + 1]) for beats in told for at in range(len(beats) - steps)
+                            if min(beats[at:at + steps + 1]) >= low]
+                    last = reach_from(canon, low, steps)
+                    if ends:
+                        self.assertEqual(last, min(ends), (numbers, low, steps))
+                    else:
+                        self.assertEqual(last is None, steps > 1 and canon.inner() is None, (numbers, low, steps))
+                        self.assertTrue(last is None or last >= bound)
+                    seen.add((last is None, bool(ends), steps))
+        self.assertGreater(len(seen), 8)
 
     def test_joins(self):
         for numbers in small_numbers():
