@@ -223,12 +223,13 @@ class Numbers(unittest.TestCase):
                 self.assertEqual(caught.exception.many, 1000)
 
     def test_no_lengths(self):
-        canon, table = Canon(1, 0, 2, 0), Table(2, 2, [(0, 1)])
+        canon = Canon(1, 0, 2, 0)
         for ask in (fitting, bar, growth, as_number):
-            for thing in NO_WHOLES + (-1001, -9 * GREAT, [1001], (1001,), "1001"):
-                with self.assertRaises(NoLength) as caught:
-                    ask(canon, table, thing)
-                self.assertIs(caught.exception.length, thing)
+            for table in (Table(2, 2, [(0, 1)]), full_table(2, 2), Table(2, 2, [(0, 1), (1, 0)])):
+                for thing in NO_WHOLES + (-1001, -9 * GREAT, [1001], (1001,), "1001"):
+                    with self.assertRaises(NoLength) as caught:
+                        ask(canon, table, thing)
+                    self.assertIs(caught.exception.length, thing)
 
 
 class Tables(unittest.TestCase):

@@ -171,6 +171,8 @@ class AllTunes(unittest.TestCase):
             self.assertEqual(all_tunes(canon, Table(1, 2, [(0, 0)]), 300), [[0] * 300])
             self.assertEqual(all_tunes(canon, Table(1, 2, []), 300), [])
             self.assertEqual(all_tunes(canon, Table(4, 2, []), 300), [])
+            # What bars all tunes comes late: beat 100 is led to beat 110.
+            self.assertEqual(all_tunes(Canon(200, 100, 201, 110), Table(4, 2, []), 300), [])
             self.refused((1, 0, 2, 0), full_table(2, 2), 300)
 
 
