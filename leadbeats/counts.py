@@ -13,11 +13,7 @@ def fitting(canon, table, n):
     """Tell how many tunes of n beats fit, as a rising list of (base, exponent); [(1, 1)] of one, [] of none."""
     if bar(canon, table, n) is not None:
         return []
-    powers = {}
-    for base, exponent in factors(canon, table, n):
-        powers[base] = powers.get(base, 0) + exponent
-    told = sorted([(base, powers[base]) for base in powers if base > 1])
-    return told if len(told) > 0 else [(1, 1)]
+    return as_powers(factors(canon, table, n))
 
 
 def bar(canon, table, n):
@@ -84,3 +80,12 @@ def factors(canon, table, n):
         words = word_counts(ways_of(table), lengths[-1][0])
         told = told + [(words[length], many) for length, many in lengths]
     return told
+
+
+def as_powers(parts):
+    """Tell what (base, exponent) of some parts, none of base 0, multiply to, each base once; [(1, 1)] of 1."""
+    powers = {}
+    for base, exponent in parts:
+        powers[base] = powers.get(base, 0) + exponent
+    told = sorted([(base, powers[base]) for base in powers if base > 1 and powers[base] > 0])
+    return told if len(told) > 0 else [(1, 1)]

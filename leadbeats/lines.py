@@ -23,9 +23,14 @@ def line_of(canon, n, beat):
 
 def lines_of(canon, n):
     """Tell the list of all lines of a tune of n beats."""
+    return lines_through(canon, n, list(range(n)))
+
+
+def lines_through(canon, n, wanted):
+    """Tell the list of the lines of a tune of n beats in which some wanted beats are, each line once."""
     told = []
     seen = {}
-    for beat in range(n):
+    for beat in wanted:
         if beat not in seen:
             kind, beats = line_of(canon, n, beat)
             told.append((kind, beats))

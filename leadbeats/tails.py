@@ -130,38 +130,3 @@ def outer_word(ways, length, at):
         note, tail = going[at]
         told.append(note)
     return told
-
-
-def nearest_word(ways, notes):
-    """Tell the first of the words that differ from a list of notes at the fewest places; there has to be one."""
-    costs = [{tail: 0 for tail in ways}]
-    for wanted in reversed(notes):
-        costs.append(costs_ahead(ways, costs[-1], wanted))
-    told = []
-    tail = ()
-    for wanted, later in zip(notes, costs[-2::-1]):
-        note, tail = cheapest(ways[tail], later, wanted)
-        told.append(note)
-    return told
-
-
-def costs_ahead(ways, later, wanted):
-    """Tell by tails the fewest changes with one note more; tails from which no word goes on are left out."""
-    told = {}
-    for tail in ways:
-        costs = [later[behind] + change(note, wanted) for note, behind in ways[tail] if behind in later]
-        if len(costs) > 0:
-            told[tail] = min(costs)
-    return told
-
-
-def cheapest(going, later, wanted):
-    """Tell the first of the ways (note, tail behind it) that cost the fewest changes."""
-    costs = [(later[behind] + change(note, wanted), note, behind) for note, behind in going if behind in later]
-    cost, note, behind = min(costs)
-    return (note, behind)
-
-
-def change(note, wanted):
-    """Tell how many changes a note costs where one is wanted."""
-    return 0 if note == wanted else 1

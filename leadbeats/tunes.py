@@ -1,12 +1,13 @@
 """Tunes told whole, and single notes of the first and the last one."""
 
+from leadbeats.costs import Costs, change_fares
 from leadbeats.counts import as_number, bar
 from leadbeats.errors import BadTune, NoLength, NoNumber, TooMany
 from leadbeats.lines import LOOP, RISING, line_of, lines_of, next_beat, ways_by_kind
 from leadbeats.rows import check_beat, check_length, reach_from
 from leadbeats.scores import Score
 from leadbeats.tables import loops, notes_fault
-from leadbeats.tails import chosen, how_far, nearest_word, outer_word, tail_of
+from leadbeats.tails import chosen, how_far, outer_word, tail_of
 from leadbeats.wholes import is_from
 
 MOST_BEATS = 300
@@ -90,9 +91,10 @@ def mended(canon, table, tune):
     if bar(canon, table, len(tune)) is not None:
         return None
     ways = ways_by_kind(table)
+    costs = {kind: Costs(ways[kind]) for kind in ways}
     other = list(tune)
     for kind, beats in lines_of(canon, len(tune)):
-        word = nearest_word(ways[kind], [tune[beat] for beat in beats])
+        word = costs[kind].cheapest_word(change_fares(table, [tune[beat] for beat in beats]))
         for beat, note in zip(beats, word):
             other[beat] = note
     return (len([beat for beat, note in enumerate(tune) if other[beat] != note]), other)
