@@ -5,7 +5,7 @@ from leadbeats.hearing import Hearing
 from leadbeats.lines import line_of
 from leadbeats.rows import check_beat, row
 from leadbeats.tails import Chart, all_ends
-from leadbeats.wholes import is_from, is_whole
+from leadbeats.wholes import is_whole
 
 
 def many_heard(canon, table, n, heard):
@@ -57,7 +57,7 @@ def clash_of(canon, table, n, heard):
 def is_clash(canon, table, n, heard, thing):
     """Tell of anything whether it is a clash."""
     hearing = Hearing(canon, table, n, heard)
-    if not is_clash_shape(thing) or not is_from(thing[0], 0) or thing[0] >= n:
+    if not is_clash_shape(thing) or not 0 <= thing[0] < n:
         return False
     first, place, length = row(canon, n, thing[0])
     line = line_of(canon, n, first)

@@ -13,7 +13,7 @@ class Reaches:
         self.further = {}
         self.nearer = {}
 
-    def start(self):
+    def at_first(self):
         """Tell the reach ahead of all notes."""
         return self.bits[()]
 
@@ -53,7 +53,7 @@ class Reaches:
 
     def all_behind(self, length, known):
         """Tell the list of the reaches ahead of each place of words with known notes, a dict by places, and at last."""
-        told = [self.start()]
+        told = [self.at_first()]
         for place in range(length):
             told.append(self.behind(told[-1], known.get(place)))
         return told
@@ -75,7 +75,7 @@ class Reaches:
         one reach only the best one can be the best at last: of two as great, the first stays the first with any
         others put into both.
         """
-        best = {self.start(): []}
+        best = {self.at_first(): []}
         for place in range(length):
             later = {}
             for reach in best:
